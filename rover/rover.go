@@ -1,0 +1,157 @@
+// Package rover: events told to those who roam: see DOC.md.
+package rover
+
+import (
+	"rover/api"
+	"rover/clients"
+	"rover/links"
+	"rover/tree"
+)
+
+// Net is brokers and clients.
+type Net struct {
+	closed  bool
+	tree    tree.Tree
+	links   links.Links[*frame]
+	clients [api.Clients]clients.Client
+}
+
+// New makes a net (P3).
+func New(parents []int) (*Net, api.Errno) {
+	brokers, ok := tree.New(parents)
+	if !ok {
+		return nil, api.ErrArg
+	}
+	n := &Net{tree: brokers, links: links.New[*frame](brokers)}
+	for i := range n.clients {
+		n.clients[i] = clients.New()
+	}
+	return n, api.OK
+}
+
+// Attach lets a client come to a broker (P4).
+func (n *Net) Attach(client int, broker int) api.Errno {
+	if e := n.check(isClient(client) && n.tree.Has(broker)); e != api.OK {
+		return e
+	}
+	c := &n.clients[client]
+	switch {
+	case !c.Away():
+		return api.ErrHere
+	case n.full():
+		return api.ErrFull
+	}
+	c.Come(broker)
+	return api.OK
+}
+
+// Detach lets a client go (P4).
+func (n *Net) Detach(client int) api.Errno {
+	if e := n.check(isClient(client)); e != api.OK {
+		return e
+	}
+	c := &n.clients[client]
+	if c.Away() {
+		return api.ErrAway
+	}
+	c.Leave()
+	return api.OK
+}
+
+// Subscribe takes a subscription in (P5).
+// Only the refusals of P3 are built as yet.
+func (n *Net) Subscribe(client int, filter []api.Test) (int, api.Errno) {
+	return 0, n.check(isClient(client))
+}
+
+// Unsubscribe takes a subscription out (P5).
+// Only the refusals of P3 are built as yet.
+func (n *Net) Unsubscribe(client int, slot int) api.Errno {
+	return n.check(isClient(client) && isSlot(slot))
+}
+
+// Publish publishes an event (P6).
+func (n *Net) Publish(client int, fields [3]int) (int, api.Errno) {
+	if e := n.check(isClient(client)); e != api.OK {
+		return 0, e
+	}
+	c := &n.clients[client]
+	switch {
+	case c.Away():
+		return 0, api.ErrAway
+	case n.full():
+		return 0, api.ErrFull
+	}
+	event := api.Event{Publisher: client, Number: c.Number(), Fields: fields}
+	n.handle(c.At(), clients.Nowhere, &frame{kind: eventFrame, event: event})
+	return event.Number, api.OK
+}
+
+// Deliver handles a frame (P6).
+func (n *Net) Deliver(from int, to int) api.Errno {
+	if e := n.check(n.tree.Neighbours(from, to)); e != api.OK {
+		return e
+	}
+	f, ok := n.links.Take(from, to)
+	if !ok {
+		return api.ErrNone
+	}
+	n.handle(to, from, f)
+	return api.OK
+}
+
+// Pending tells what waits in links (P8).
+func (n *Net) Pending() []api.Link {
+	return n.links.Pending()
+}
+
+// Log tells what was told to a client (P8).
+func (n *Net) Log(client int) ([]api.Entry, api.Errno) {
+	if e := n.check(isClient(client)); e != api.OK {
+		return nil, e
+	}
+	return n.clients[client].TakeLog(), api.OK
+}
+
+// Look tells how a client is (P8).
+func (n *Net) Look(client int) (api.View, api.Errno) {
+	if e := n.check(isClient(client)); e != api.OK {
+		return api.View{}, e
+	}
+	return n.clients[client].View(), api.OK
+}
+
+// Close closes the net (P8).
+func (n *Net) Close() (int, api.Errno) {
+	if n.closed {
+		return 0, api.ErrClosed
+	}
+	left := n.links.Close()
+	// A closed net answers nothing but that it is closed, so nothing else is kept.
+	*n = Net{closed: true}
+	return left, api.OK
+}
+
+// check answers the refusals that come ahead of all others (P3); good says whether there is such a client, broker, slot or link.
+func (n *Net) check(good bool) api.Errno {
+	switch {
+	case n.closed:
+		return api.ErrClosed
+	case !good:
+		return api.ErrArg
+	}
+	return api.OK
+}
+
+// full tells whether calls that may send frames are refused (P7).
+func (n *Net) full() bool {
+	return n.links.Waiting() >= api.MaxFrames
+}
+
+func isClient(client int) bool {
+	return client >= 0 && client < api.Clients
+}
+
+func isSlot(slot int) bool {
+	return slot >= 0 && slot < api.Slots
+}
