@@ -1,7 +1,10 @@
-// Package clients: where a client is, what it has published, and what was told to it.
+// Package clients: where a client is, what it has published and asked for, and what was told to it.
 package clients
 
-import "rover/api"
+import (
+	"rover/api"
+	"rover/notes"
+)
 
 // Nowhere stands for a broker where there is none.
 const Nowhere = -1
@@ -9,13 +12,19 @@ const Nowhere = -1
 // Client is one of those who roam.
 type Client struct {
 	at, home  int
+	stays     int
 	published int
+	slots     [api.Slots]slot
 	log       []api.Entry
 }
 
 // New makes a client that is away and has no home.
 func New() Client {
-	return Client{at: Nowhere, home: Nowhere}
+	c := Client{at: Nowhere, home: Nowhere}
+	for i := range c.slots {
+		c.slots[i] = newSlot()
+	}
+	return c
 }
 
 // Away tells whether the client is at no broker.
@@ -28,14 +37,20 @@ func (c *Client) At() int {
 	return c.at
 }
 
-// Come brings the client to a broker, which is its home from now on.
+// Come brings the client to a broker, which is its home from now on, and begins a new stay.
 func (c *Client) Come(broker int) {
 	c.at, c.home = broker, broker
+	c.stays++
 }
 
 // Leave takes the client away; its home stays.
 func (c *Client) Leave() {
 	c.at = Nowhere
+}
+
+// Stay tells which of the client's stays this is.
+func (c *Client) Stay() int {
+	return c.stays
 }
 
 // Number gives the number of the client's next event.
@@ -44,9 +59,38 @@ func (c *Client) Number() int {
 	return c.published
 }
 
-// Tell puts an entry at the end of the client's log.
-func (c *Client) Tell(entry api.Entry) {
-	c.log = append(c.log, entry)
+// Free tells the least slot without a subscription; false, if there is none.
+func (c *Client) Free() (int, bool) {
+	for i := range c.slots {
+		if !c.slots[i].taken {
+			return i, true
+		}
+	}
+	return 0, false
+}
+
+// Has tells whether there is a subscription in a slot.
+func (c *Client) Has(slot int) bool {
+	return c.slots[slot].taken
+}
+
+// Subscribe makes a subscription in a slot that is free, and tells its age.
+func (c *Client) Subscribe(slot int) int {
+	c.slots[slot].take()
+	return c.slots[slot].age
+}
+
+// Unsubscribe ends the subscription in a slot, and tells its age.
+func (c *Client) Unsubscribe(slot int) int {
+	c.slots[slot].free()
+	return c.slots[slot].age
+}
+
+// Tell puts an entry at the end of the client's log; but not an event that the subscription has outrun, nor anything for a subscription that has ended.
+func (c *Client) Tell(note notes.Note) {
+	if c.slots[note.Slot].hear(note) {
+		c.log = append(c.log, note.Entry)
+	}
 }
 
 // TakeLog hands the log over: the client begins a new one, so that the two share no memory.
@@ -58,5 +102,9 @@ func (c *Client) TakeLog() []api.Entry {
 
 // View shows the client as it is.
 func (c *Client) View() api.View {
-	return api.View{At: c.at, Home: c.home}
+	v := api.View{At: c.at, Home: c.home}
+	for i := range v.Slots {
+		v.Slots[i] = c.Has(i)
+	}
+	return v
 }

@@ -5,6 +5,7 @@ import (
 	"testing"
 
 	"rover/api"
+	"rover/notes"
 )
 
 func TestComeAndLeave(t *testing.T) {
@@ -37,30 +38,155 @@ func TestNumbersRiseFromOne(t *testing.T) {
 	}
 }
 
-func TestLogIsToldOnceAndInOrder(t *testing.T) {
+func TestAStayBeginsWithEachAttach(t *testing.T) {
 	c := New()
-	first := []api.Entry{{Slot: 1, Lost: 3}, {Slot: 0, Event: api.Event{Publisher: 2, Number: 7}}, {Slot: 1}}
-	for _, entry := range first {
-		c.Tell(entry)
+	last := c.Stay()
+	for _, broker := range []int{2, 2, 1, 2} {
+		c.Come(broker)
+		if c.Stay() == last {
+			t.Errorf("Frames: the stay %d goes on at %d", last, broker)
+		}
+		last = c.Stay()
+		c.Number()
+		c.Leave()
+		if c.Stay() != last {
+			t.Errorf("Frames: a stay ends with Detach")
+		}
 	}
-	log := c.TakeLog()
-	if !slices.Equal(log, first) {
-		t.Errorf("P8: %v, want %v", log, first)
+}
+
+func TestSlotsAreTakenFromTheLeastOn(t *testing.T) {
+	c := New()
+	c.Come(3)
+	for slot := range api.Slots {
+		if free, ok := c.Free(); free != slot || !ok || c.Has(slot) {
+			t.Errorf("P5: %d, %v, want %d", free, ok, slot)
+		}
+		c.Subscribe(slot)
+		if !c.Has(slot) {
+			t.Errorf("P5: nothing in slot %d", slot)
+		}
+	}
+	if free, ok := c.Free(); free != 0 || ok {
+		t.Errorf("P5: both taken: %d, %v", free, ok)
+	}
+	if v := c.View(); v != (api.View{At: 3, Home: 3, Slots: [2]bool{true, true}}) {
+		t.Errorf("P8: %+v", v)
+	}
+	c.Unsubscribe(0)
+	if free, ok := c.Free(); free != 0 || !ok {
+		t.Errorf("P5: %d, %v, want 0", free, ok)
+	}
+	if v := c.View(); v != (api.View{At: 3, Home: 3, Slots: [2]bool{false, true}}) {
+		t.Errorf("P8: %+v", v)
+	}
+}
+
+func TestAgesOfASlotRise(t *testing.T) {
+	c := New()
+	for want := range 4 {
+		if age := c.Subscribe(0); age != want {
+			t.Errorf("P5: Subscribe: age %d, want %d", age, want)
+		}
+		if age := c.Unsubscribe(0); age != want {
+			t.Errorf("P5: Unsubscribe: age %d, want %d", age, want)
+		}
+	}
+	if age := c.Subscribe(1); age != 0 {
+		t.Errorf("P5: the first one of slot 1: age %d", age)
+	}
+}
+
+// subscribed makes a client with subscriptions in both slots.
+func subscribed() Client {
+	c := New()
+	c.Subscribe(0)
+	c.Subscribe(1)
+	return c
+}
+
+func event(publisher, number int) api.Event {
+	return api.Event{Publisher: publisher, Number: number}
+}
+
+func TestLogIsToldOnceAndInOrder(t *testing.T) {
+	c := subscribed()
+	told := []notes.Note{notes.Lost(1, 3), notes.Event(0, event(2, 7), 1), notes.Event(1, event(2, 7), 1), notes.Lost(0, 1)}
+	var want []api.Entry
+	for _, note := range told {
+		c.Tell(note)
+		want = append(want, note.Entry)
+	}
+	if log := c.TakeLog(); !slices.Equal(log, want) {
+		t.Errorf("P8: %v, want %v", log, want)
 	}
 	if again := c.TakeLog(); len(again) != 0 {
 		t.Errorf("P8: told again: %v", again)
 	}
 }
 
+func TestOfOneStayOnlyRisingNumbersAreTold(t *testing.T) {
+	c := subscribed()
+	for k, x := range []struct {
+		publisher, number, stay int
+		told                    bool
+	}{
+		{2, 3, 1, true},
+		{2, 3, 1, false},
+		{2, 2, 1, false},
+		{2, 5, 1, true},
+		{2, 4, 1, false},
+		{2, 5, 1, false},
+		{1, 1, 1, true},
+		{1, 1, 1, false},
+		{2, 7, 2, true},
+		{2, 6, 1, true},
+		{2, 7, 2, false},
+		{2, 8, 2, true},
+		{2, 6, 1, false},
+	} {
+		c.Tell(notes.Event(0, event(x.publisher, x.number), x.stay))
+		if log := c.TakeLog(); (len(log) == 1) != x.told {
+			t.Errorf("Frames: line %d: %v", k, log)
+		}
+	}
+}
+
+func TestWhatWasToldHoldsForOneSubscriptionAlone(t *testing.T) {
+	c := subscribed()
+	c.Tell(notes.Event(0, event(3, 9), 1))
+	c.Tell(notes.Event(1, event(3, 8), 1))
+	if log := c.TakeLog(); len(log) != 2 {
+		t.Errorf("Frames: another slot: %v", log)
+	}
+	c.Unsubscribe(0)
+	c.Subscribe(0)
+	c.Tell(notes.Event(0, event(3, 8), 1))
+	c.Tell(notes.Event(1, event(3, 8), 1))
+	if log := c.TakeLog(); !slices.Equal(log, []api.Entry{{Slot: 0, Event: event(3, 8)}}) {
+		t.Errorf("Frames: since it was made: %v", log)
+	}
+}
+
+func TestNothingIsToldWithoutASubscription(t *testing.T) {
+	c := subscribed()
+	c.Unsubscribe(1)
+	c.Tell(notes.Lost(1, 2))
+	c.Tell(notes.Event(1, event(0, 1), 1))
+	if log := c.TakeLog(); log != nil {
+		t.Errorf("Frames: %v", log)
+	}
+}
+
 func TestLogIsNewMemory(t *testing.T) {
-	c := New()
-	for slot := range 3 {
-		c.Tell(api.Entry{Slot: slot})
+	c := subscribed()
+	for number := 1; number <= 3; number++ {
+		c.Tell(notes.Event(0, event(0, number), 1))
 	}
 	old := c.TakeLog()
 	// Fewer than before: they would fit into the memory of the first answer.
-	c.Tell(api.Entry{Lost: 2})
-	if old[0] != (api.Entry{}) {
+	c.Tell(notes.Lost(0, 2))
+	if old[0] != (api.Entry{Event: event(0, 1)}) {
 		t.Errorf("P2: an answer is written into: %v", old)
 	}
 	clear(old[:cap(old)])

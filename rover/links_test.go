@@ -7,7 +7,7 @@ import (
 	"rover/api"
 )
 
-// No call sends a frame while there are no subscriptions, so these tests put frames into links by hand.
+// These tests put frames into links by hand: as many as they need, in just the links they need, and some that no calls make.
 
 func start(t *testing.T, parents ...int) *Net {
 	t.Helper()
@@ -116,6 +116,83 @@ func TestFullRefusesNothingElse(t *testing.T) {
 	}
 }
 
+func TestFullRefusesSubscriptions(t *testing.T) {
+	n := start(t, 0, 1)
+	n.Attach(0, 2)
+	n.Attach(1, 2)
+	fill(n, 0, 1, 98)
+	if s, e := n.Subscribe(0, nil); s != 0 || e != api.OK {
+		t.Errorf("P7: Subscribe at 98 frames: %d, %d", s, e)
+	}
+	if s, e := n.Subscribe(0, nil); s != 1 || e != api.OK {
+		t.Errorf("P7: Subscribe at 99 frames: %d, %d", s, e)
+	}
+	before := n.clients[0].View()
+	for k, c := range []struct{ got, want api.Errno }{
+		{n.Unsubscribe(0, 0), api.ErrFull},
+		{n.Unsubscribe(1, 0), api.ErrNone},
+		{n.Unsubscribe(2, 0), api.ErrAway},
+		{n.Unsubscribe(0, 2), api.ErrArg},
+		{refusal(n.Subscribe(0, nil)), api.ErrNone},
+		{refusal(n.Subscribe(1, nil)), api.ErrFull},
+		{refusal(n.Subscribe(2, nil)), api.ErrAway},
+		{refusal(n.Subscribe(1, []api.Test{{}})), api.ErrArg},
+	} {
+		if c.got != c.want {
+			t.Errorf("P5: at 100 frames, line %d: %d, want %d", k, c.got, c.want)
+		}
+	}
+	if n.clients[0].View() != before || n.clients[1].View().Slots != [2]bool{} || n.links.Waiting() != 100 {
+		t.Errorf("P1: a refusal changes something")
+	}
+	n.Deliver(0, 1)
+	if e := n.Unsubscribe(0, 0); e != api.OK {
+		t.Errorf("P7: Unsubscribe at 99 frames: %d", e)
+	}
+	n.Deliver(0, 1)
+	if s, e := n.Subscribe(1, nil); s != 0 || e != api.OK {
+		t.Errorf("P7: Subscribe at 99 frames again: %d, %d", s, e)
+	}
+}
+
+// refusal tells the error, or none that there is, if a slot stands beside it.
+func refusal(slot int, e api.Errno) api.Errno {
+	if slot != 0 {
+		return -1
+	}
+	return e
+}
+
+func TestAnEventThatComesAgainIsNotTold(t *testing.T) {
+	n := start(t, 0)
+	n.Attach(0, 1)
+	n.Subscribe(0, nil)
+	n.Subscribe(0, nil)
+	for k, c := range []struct {
+		number, stay int
+		told         bool
+	}{
+		{2, 1, true},
+		{2, 1, false},
+		{1, 1, false},
+		{3, 1, true},
+		{6, 2, true},
+		{4, 1, true},
+		{5, 2, false},
+	} {
+		event := api.Event{Publisher: 3, Number: c.number, Fields: [3]int{7, 8, 9}}
+		n.links.Send(0, 1, &frame{kind: eventFrame, event: event, stay: c.stay})
+		n.Deliver(0, 1)
+		var want []api.Entry
+		if c.told {
+			want = []api.Entry{{Slot: 0, Event: event}, {Slot: 1, Event: event}}
+		}
+		if log, _ := n.Log(0); !slices.Equal(log, want) {
+			t.Errorf("Frames: line %d: %v, want %v", k, log, want)
+		}
+	}
+}
+
 func TestARefusedEventTakesNoNumber(t *testing.T) {
 	n := start(t, 0)
 	n.Attach(0, 0)
@@ -141,25 +218,6 @@ func TestPendingIsNewMemory(t *testing.T) {
 	}
 	if p := n.Pending(); !slices.Equal(p, want) {
 		t.Errorf("P2: an answer is kept: %v", p)
-	}
-}
-
-func TestLogHandsOverWhatWasTold(t *testing.T) {
-	n := start(t)
-	told := []api.Entry{{Slot: 1, Lost: 2}, {Slot: 0, Event: api.Event{Publisher: 3, Number: 1, Fields: [3]int{4, 5, 6}}}}
-	for _, entry := range told {
-		n.clients[2].Tell(entry)
-	}
-	for _, client := range []int{-1, 4, 0, 3} {
-		if l, _ := n.Log(client); len(l) != 0 {
-			t.Errorf("P8: Log(%d): %v", client, l)
-		}
-	}
-	if l, e := n.Log(2); !slices.Equal(l, told) || e != api.OK {
-		t.Errorf("P8: Log(2): %v, %d, want %v", l, e, told)
-	}
-	if l, e := n.Log(2); len(l) != 0 || e != api.OK {
-		t.Errorf("P8: Log(2) again: %v, %d", l, e)
 	}
 }
 

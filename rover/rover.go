@@ -3,7 +3,9 @@ package rover
 
 import (
 	"rover/api"
+	"rover/brokers"
 	"rover/clients"
+	"rover/filters"
 	"rover/links"
 	"rover/tree"
 )
@@ -13,16 +15,17 @@ type Net struct {
 	closed  bool
 	tree    tree.Tree
 	links   links.Links[*frame]
+	brokers [api.MaxBrokers]brokers.Broker
 	clients [api.Clients]clients.Client
 }
 
 // New makes a net (P3).
 func New(parents []int) (*Net, api.Errno) {
-	brokers, ok := tree.New(parents)
+	t, ok := tree.New(parents)
 	if !ok {
 		return nil, api.ErrArg
 	}
-	n := &Net{tree: brokers, links: links.New[*frame](brokers)}
+	n := &Net{tree: t, links: links.New[*frame](t)}
 	for i := range n.clients {
 		n.clients[i] = clients.New()
 	}
@@ -30,6 +33,7 @@ func New(parents []int) (*Net, api.Errno) {
 }
 
 // Attach lets a client come to a broker (P4).
+// Moves are not built as yet: its subscriptions stay where they are.
 func (n *Net) Attach(client int, broker int) api.Errno {
 	if e := n.check(isClient(client) && n.tree.Has(broker)); e != api.OK {
 		return e
@@ -42,6 +46,7 @@ func (n *Net) Attach(client int, broker int) api.Errno {
 		return api.ErrFull
 	}
 	c.Come(broker)
+	n.tellKept(client)
 	return api.OK
 }
 
@@ -59,15 +64,43 @@ func (n *Net) Detach(client int) api.Errno {
 }
 
 // Subscribe takes a subscription in (P5).
-// Only the refusals of P3 are built as yet.
 func (n *Net) Subscribe(client int, filter []api.Test) (int, api.Errno) {
-	return 0, n.check(isClient(client))
+	f, ok := filters.New(filter)
+	if e := n.check(ok && isClient(client)); e != api.OK {
+		return 0, e
+	}
+	c := &n.clients[client]
+	slot, free := c.Free()
+	switch {
+	case c.Away():
+		return 0, api.ErrAway
+	case !free:
+		return 0, api.ErrNone
+	case n.full():
+		return 0, api.ErrFull
+	}
+	s := brokers.Subscription{Client: client, Slot: slot, Age: c.Subscribe(slot), Filter: f}
+	n.handle(c.At(), brokers.Here, &frame{kind: subFrame, subscription: s})
+	return slot, api.OK
 }
 
 // Unsubscribe takes a subscription out (P5).
-// Only the refusals of P3 are built as yet.
 func (n *Net) Unsubscribe(client int, slot int) api.Errno {
-	return n.check(isClient(client) && isSlot(slot))
+	if e := n.check(isClient(client) && isSlot(slot)); e != api.OK {
+		return e
+	}
+	c := &n.clients[client]
+	switch {
+	case c.Away():
+		return api.ErrAway
+	case !c.Has(slot):
+		return api.ErrNone
+	case n.full():
+		return api.ErrFull
+	}
+	s := brokers.Subscription{Client: client, Slot: slot, Age: c.Unsubscribe(slot)}
+	n.handle(c.At(), brokers.Here, &frame{kind: unsubFrame, subscription: s})
+	return api.OK
 }
 
 // Publish publishes an event (P6).
@@ -83,7 +116,7 @@ func (n *Net) Publish(client int, fields [3]int) (int, api.Errno) {
 		return 0, api.ErrFull
 	}
 	event := api.Event{Publisher: client, Number: c.Number(), Fields: fields}
-	n.handle(c.At(), clients.Nowhere, &frame{kind: eventFrame, event: event})
+	n.handle(c.At(), brokers.Here, &frame{kind: eventFrame, event: event, stay: c.Stay()})
 	return event.Number, api.OK
 }
 
@@ -141,6 +174,16 @@ func (n *Net) check(good bool) api.Errno {
 		return api.ErrArg
 	}
 	return api.OK
+}
+
+// tellKept tells a client all that its broker kept for it.
+func (n *Net) tellKept(client int) {
+	c := &n.clients[client]
+	for slot := range api.Slots {
+		if known := n.brokers[c.At()].Known(client, slot); known != nil {
+			known.Release(c.Tell)
+		}
+	}
 }
 
 // full tells whether calls that may send frames are refused (P7).

@@ -281,11 +281,24 @@ func walk(n *rover.Net, k int) []int {
 	a, b := odd[k%len(odd)], odd[k/3%len(odd)]
 	m, e := n.Publish(a, [3]int{k, b, a})
 	v, e2 := n.Look(b)
-	answers := []int{m, int(e), v.At, v.Home, int(e2), int(n.Deliver(a, b)), len(n.Pending())}
-	if k%2 == 0 {
-		return append(answers, int(n.Attach(a, b)))
+	answers := []int{m, int(e), v.At, v.Home, int(e2), int(n.Deliver(a, b))}
+	for _, link := range n.Pending() {
+		answers = append(answers, link.From, link.To, link.Many)
 	}
-	return append(answers, int(n.Detach(b)))
+	log, e3 := n.Log(k % 5)
+	for _, entry := range log {
+		answers = append(answers, entry.Slot, entry.Lost, entry.Event.Publisher, entry.Event.Number)
+	}
+	switch k % 4 {
+	case 0:
+		return append(answers, int(e3), int(n.Attach(a, b)))
+	case 1:
+		return append(answers, int(e3), int(n.Detach(b)))
+	case 2:
+		slot, e4 := n.Subscribe(a, []api.Test{{Field: k % 3, Op: k % 5, N: b}})
+		return append(answers, int(e3), slot, int(e4))
+	}
+	return append(answers, int(e3), int(n.Unsubscribe(b, k/4%2)))
 }
 
 func TestNetsHaveNothingToDoWithEachOther(t *testing.T) {

@@ -1,0 +1,195 @@
+package rover_test
+
+import (
+	"math/rand/v2"
+	"testing"
+
+	"rover/api"
+	"rover/rover"
+)
+
+// asked is a subscription as its client sees it.
+type asked struct {
+	filter []api.Test
+	known  bool // by all brokers
+	due    map[[2]int]bool
+	told   map[[2]int]bool
+	last   map[[2]int]int
+	lost   int
+}
+
+// play is a net, calls by chance, and what must come of them.
+type play struct {
+	t         *testing.T
+	n         *rover.Net
+	r         *rand.Rand
+	brokers   int
+	published map[[2]int]api.Event
+	stayOf    map[[2]int]int
+	stays     [api.Clients]int
+	asked     [api.Clients][api.Slots]*asked
+}
+
+// meets asks the document's words, one by one.
+func meets(filter []api.Test, event api.Event) bool {
+	for _, test := range filter {
+		field := event.Fields[test.Field]
+		if test.Op == 1 && field != test.N || test.Op == 2 && field == test.N || test.Op == 3 && field >= test.N || test.Op == 4 && field < test.N {
+			return false
+		}
+	}
+	return true
+}
+
+func newPlay(t *testing.T, seed uint64) *play {
+	p := &play{t: t, r: rand.New(rand.NewPCG(seed, 1)), published: map[[2]int]api.Event{}, stayOf: map[[2]int]int{}}
+	p.brokers = 1 + p.r.IntN(api.MaxBrokers)
+	var parents []int
+	for i := range p.brokers - 1 {
+		parents = append(parents, p.r.IntN(i+1))
+	}
+	p.n = start(t, parents...)
+	return p
+}
+
+// come lets a client that has subscriptions come to its home alone: it stays.
+func (p *play) come(client int) {
+	broker := p.r.IntN(p.brokers)
+	if p.asked[client] != [api.Slots]*asked{} {
+		v, _ := p.n.Look(client)
+		broker = v.Home
+	}
+	if p.n.Attach(client, broker) == api.OK {
+		p.stays[client]++
+	}
+}
+
+func (p *play) subscribe(client int) {
+	var filter []api.Test
+	for range p.r.IntN(3) {
+		filter = append(filter, api.Test{Field: p.r.IntN(3), Op: 1 + p.r.IntN(4), N: p.r.IntN(3)})
+	}
+	if slot, e := p.n.Subscribe(client, filter); e == api.OK {
+		if p.asked[client][slot] != nil {
+			p.t.Fatalf("P5: slot %d of client %d was not free", slot, client)
+		}
+		p.asked[client][slot] = &asked{filter: filter, due: map[[2]int]bool{}, told: map[[2]int]bool{}, last: map[[2]int]int{}}
+	}
+}
+
+func (p *play) unsubscribe(client int) {
+	slot := p.r.IntN(api.Slots)
+	p.read(client)
+	if p.n.Unsubscribe(client, slot) == api.OK {
+		p.asked[client][slot] = nil
+	}
+}
+
+func (p *play) publish(client int) {
+	event := api.Event{Publisher: client, Fields: [3]int{p.r.IntN(3), p.r.IntN(3), p.r.IntN(3)}}
+	number, e := p.n.Publish(client, event.Fields)
+	if e != api.OK {
+		return
+	}
+	event.Number = number
+	id := [2]int{client, number}
+	p.published[id], p.stayOf[id] = event, p.stays[client]
+	for _, slots := range p.asked {
+		for _, a := range slots {
+			if a != nil && a.known && meets(a.filter, event) {
+				a.due[id] = true
+			}
+		}
+	}
+}
+
+func (p *play) deliver() {
+	pending := p.n.Pending()
+	if len(pending) == 0 {
+		return
+	}
+	link := pending[p.r.IntN(len(pending))]
+	deliver(p.t, p.n, link.From, link.To)
+}
+
+// read takes a client's log, and holds each entry against P9.
+func (p *play) read(client int) {
+	log, _ := p.n.Log(client)
+	for _, entry := range log {
+		a, event := p.asked[client][entry.Slot], entry.Event
+		if a == nil {
+			p.t.Fatalf("P9: client %d: %+v without a subscription", client, entry)
+		}
+		if entry.Lost > 0 {
+			a.lost += entry.Lost
+			continue
+		}
+		id := [2]int{event.Publisher, event.Number}
+		stay := [2]int{event.Publisher, p.stayOf[id]}
+		switch {
+		case p.published[id] != event || event.Number == 0:
+			p.t.Fatalf("P9: %+v was not published", event)
+		case a.told[id]:
+			p.t.Fatalf("P9: %+v is told twice", event)
+		case !meets(a.filter, event):
+			p.t.Fatalf("P9: %+v does not meet %v", event, a.filter)
+		case event.Number <= a.last[stay]:
+			p.t.Fatalf("P9: %+v is told after %d", event, a.last[stay])
+		}
+		a.told[id], a.last[stay] = true, event.Number
+	}
+}
+
+// settled holds what was told against P10, when nothing waits; from now on all brokers know all subscriptions.
+func (p *play) settled() {
+	for client := range api.Clients {
+		if v, _ := p.n.Look(client); v.At < 0 {
+			p.come(client)
+		}
+		p.read(client)
+		for _, a := range p.asked[client] {
+			if a == nil {
+				continue
+			}
+			missing := 0
+			for id := range a.due {
+				if !a.told[id] {
+					missing++
+				}
+			}
+			if missing > a.lost {
+				p.t.Fatalf("P10: client %d: %d events are missing, %d were lost", client, missing, a.lost)
+			}
+			a.known = true
+		}
+	}
+}
+
+func TestWhateverIsDeliveredInWhichOrder(t *testing.T) {
+	for seed := range uint64(300) {
+		p := newPlay(t, seed)
+		for step := range 400 {
+			client := p.r.IntN(api.Clients)
+			switch p.r.IntN(12) {
+			case 0:
+				p.come(client)
+			case 1:
+				p.n.Detach(client)
+			case 2:
+				p.subscribe(client)
+			case 3:
+				p.unsubscribe(client)
+			case 4, 5, 6:
+				p.publish(client)
+			case 7:
+				p.read(client)
+			default:
+				p.deliver()
+			}
+			if step%50 == 49 {
+				settle(t, p.n)
+				p.settled()
+			}
+		}
+	}
+}
