@@ -19,32 +19,39 @@ type Subscription struct {
 	Filter       filters.Filter
 }
 
-// Known is what a broker knows of a subscription.
+// Known is what a broker knows of a subscription. It waits, while what another broker keeps for the subscription has not come.
 type Known struct {
 	Subscription
-	Way  int
-	kept []notes.Note
-	more int
+	Way   int
+	waits bool
+	kept  Kept
 }
 
-// Keep keeps a note for a client that is not at this broker; if there is no room for it, it is only counted.
+// Waits tells whether the broker waits for what another one keeps.
+func (k *Known) Waits() bool {
+	return k.waits
+}
+
+// Keep keeps a note for a client that is not at this broker; if there is no room for it, it is only counted. While the broker waits there is room for all: the client is here, and only what came ahead of it is missing.
 func (k *Known) Keep(note notes.Note) {
-	if len(k.kept) == api.MaxKept {
-		k.more++
+	if !k.waits && len(k.kept.notes) == api.MaxKept {
+		k.kept.more++
 		return
 	}
-	k.kept = append(k.kept, note)
+	k.kept.notes = append(k.kept.notes, note)
 }
 
-// Release tells all that was kept, ahead of it how many more there were, and keeps it no longer.
+// Release tells all that was kept, and keeps it no longer.
 func (k *Known) Release(tell func(notes.Note)) {
-	if k.more > 0 {
-		tell(notes.Lost(k.Slot, k.more))
-	}
-	for _, note := range k.kept {
-		tell(note)
-	}
-	k.kept, k.more = nil, 0
+	k.kept.tell(k.Slot, tell)
+	k.kept = Kept{}
+}
+
+// Arrive tells what another broker kept, then what was kept here meanwhile, and ends the waiting.
+func (k *Known) Arrive(rest Kept, tell func(notes.Note)) {
+	rest.tell(k.Slot, tell)
+	k.Release(tell)
+	k.waits = false
 }
 
 // Broker knows of each client and slot at most one subscription.
@@ -71,6 +78,22 @@ func (b *Broker) Forget(s Subscription) {
 	if *known != nil && (*known).Age <= s.Age {
 		*known = nil
 	}
+}
+
+// Turn lets the broker know a subscription that moves, whatever it knew of it, and hands over what it kept for it.
+func (b *Broker) Turn(s Subscription, way int) Kept {
+	known := &b.known[s.Client][s.Slot]
+	var kept Kept
+	if *known != nil {
+		kept = (*known).kept
+	}
+	*known = &Known{Subscription: s, Way: way}
+	return kept
+}
+
+// Await lets the broker know a subscription whose client has just come, and wait for what the old home keeps for it.
+func (b *Broker) Await(s Subscription) {
+	b.known[s.Client][s.Slot] = &Known{Subscription: s, Way: Here, waits: true}
 }
 
 // Wanting goes through the subscriptions whose filter an event with these fields meets, by rising clients, then slots.

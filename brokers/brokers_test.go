@@ -178,3 +178,121 @@ func TestAfterReleaseThereIsRoomAgain(t *testing.T) {
 		t.Errorf("P4: %v", got)
 	}
 }
+
+func note(number int) notes.Note {
+	return notes.Event(1, api.Event{Publisher: 2, Number: number}, 3)
+}
+
+func entry(number int) api.Entry {
+	return note(number).Entry
+}
+
+func TestTurnHoldsWhateverWasKnown(t *testing.T) {
+	moved := Subscription{Client: 3, Slot: 1, Age: 4, Filter: below(t, 9)}
+	for age := -1; age < 7; age++ {
+		var b Broker
+		if age >= 0 {
+			b.Learn(Subscription{Client: 3, Slot: 1, Age: age, Filter: below(t, 1)}, Here)
+		}
+		b.Learn(Subscription{Client: 3, Slot: 0, Age: 2}, 5)
+		b.Turn(moved, 2)
+		known := b.Known(3, 1)
+		if known == nil || known.Subscription != moved || known.Way != 2 || known.Waits() {
+			t.Errorf("Frames: Move: age %d: %+v", age, known)
+		}
+		if other := b.Known(3, 0); other == nil || other.Way != 5 || other.Age != 2 {
+			t.Errorf("Frames: Move: the other slot: %+v", other)
+		}
+	}
+}
+
+func TestTurnHandsOverWhatWasKept(t *testing.T) {
+	for _, many := range []int{0, 1, 6, 8} {
+		var b Broker
+		s := Subscription{Client: 1, Slot: 1}
+		b.Learn(s, Here)
+		var want []api.Entry
+		if many > api.MaxKept {
+			want = append(want, api.Entry{Slot: 1, Lost: many - api.MaxKept})
+		}
+		for i := range many {
+			b.Known(1, 1).Keep(note(i))
+			if i < api.MaxKept {
+				want = append(want, entry(i))
+			}
+		}
+		s.Age++
+		kept := b.Turn(s, 3)
+		var got []api.Entry
+		kept.tell(1, func(n notes.Note) {
+			got = append(got, n.Entry)
+		})
+		if !slices.Equal(got, want) {
+			t.Errorf("Frames: Move: %v, want %v", got, want)
+		}
+		if left := tell(b.Known(1, 1)); left != nil {
+			t.Errorf("Frames: Move: kept on: %v", left)
+		}
+	}
+}
+
+func TestAwaitIsHereAndWaits(t *testing.T) {
+	moved := Subscription{Client: 2, Slot: 0, Age: 1, Filter: below(t, 9)}
+	for _, knew := range []bool{false, true} {
+		var b Broker
+		if knew {
+			b.Learn(Subscription{Client: 2, Slot: 0}, 4)
+			if b.Known(2, 0).Waits() {
+				t.Error("Words: it waits without a move")
+			}
+		}
+		b.Await(moved)
+		known := b.Known(2, 0)
+		if known == nil || known.Subscription != moved || known.Way != Here || !known.Waits() {
+			t.Errorf("P4: %+v", known)
+		}
+		b.Learn(Subscription{Client: 2, Slot: 0, Filter: below(t, 1)}, 4)
+		if b.Known(2, 0) != known {
+			t.Errorf("Frames: a late Sub: %+v", b.Known(2, 0))
+		}
+	}
+}
+
+func TestWhileItWaitsAllIsKept(t *testing.T) {
+	var b Broker
+	b.Await(Subscription{Client: 0, Slot: 1, Age: 1})
+	known := b.Known(0, 1)
+	rest := Kept{notes: []notes.Note{note(1), note(2)}, more: 3}
+	want := []api.Entry{{Slot: 1, Lost: 3}, entry(1), entry(2)}
+	for number := 10; number < 40; number++ {
+		known.Keep(note(number))
+		want = append(want, entry(number))
+	}
+	var got []api.Entry
+	known.Arrive(rest, func(n notes.Note) {
+		got = append(got, n.Entry)
+	})
+	if !slices.Equal(got, want) {
+		t.Errorf("Frames: Rest: %v, want %v", got, want)
+	}
+	if known.Waits() || known.Way != Here {
+		t.Errorf("Frames: Rest: %+v", known)
+	}
+	for number := range 8 {
+		known.Keep(note(number))
+	}
+	if got := tell(known); len(got) != 7 || got[0].Lost != 2 {
+		t.Errorf("Words: it waits no longer: %v", got)
+	}
+}
+
+func TestAnEmptyRest(t *testing.T) {
+	var b Broker
+	b.Await(Subscription{Client: 0, Slot: 1, Age: 1})
+	b.Known(0, 1).Arrive(Kept{}, func(n notes.Note) {
+		t.Errorf("Frames: Rest: %+v", n)
+	})
+	if b.Known(0, 1).Waits() {
+		t.Error("Frames: Rest: it waits on")
+	}
+}

@@ -3,6 +3,7 @@ package clients
 
 import (
 	"rover/api"
+	"rover/filters"
 	"rover/notes"
 )
 
@@ -35,6 +36,11 @@ func (c *Client) Away() bool {
 // At tells the broker the client is at, or Nowhere.
 func (c *Client) At() int {
 	return c.at
+}
+
+// Home tells the broker the client was last at, or Nowhere.
+func (c *Client) Home() int {
+	return c.home
 }
 
 // Come brings the client to a broker, which is its home from now on, and begins a new stay.
@@ -75,9 +81,15 @@ func (c *Client) Has(slot int) bool {
 }
 
 // Subscribe makes a subscription in a slot that is free, and tells its age.
-func (c *Client) Subscribe(slot int) int {
-	c.slots[slot].take()
+func (c *Client) Subscribe(slot int, filter filters.Filter) int {
+	c.slots[slot].take(filter)
 	return c.slots[slot].age
+}
+
+// Move takes the subscription in a slot to another broker, and tells its new age, and its filter.
+func (c *Client) Move(slot int) (int, filters.Filter) {
+	c.slots[slot].age++
+	return c.slots[slot].age, c.slots[slot].filter
 }
 
 // Unsubscribe ends the subscription in a slot, and tells its age.
@@ -100,7 +112,7 @@ func (c *Client) TakeLog() []api.Entry {
 	return log
 }
 
-// View shows the client as it is.
+// View shows the client as it is; whether a broker waits for one of its subscriptions, the brokers know.
 func (c *Client) View() api.View {
 	v := api.View{At: c.at, Home: c.home}
 	for i := range v.Slots {

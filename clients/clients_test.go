@@ -5,12 +5,13 @@ import (
 	"testing"
 
 	"rover/api"
+	"rover/filters"
 	"rover/notes"
 )
 
 func TestComeAndLeave(t *testing.T) {
 	c := New()
-	if !c.Away() || c.At() != Nowhere || c.View() != (api.View{At: -1, Home: -1}) {
+	if !c.Away() || c.At() != Nowhere || c.Home() != Nowhere || c.View() != (api.View{At: -1, Home: -1}) {
 		t.Errorf("P3: at first: %+v", c.View())
 	}
 	c.Come(0)
@@ -18,11 +19,11 @@ func TestComeAndLeave(t *testing.T) {
 		t.Errorf("P4: at 0: %+v", c.View())
 	}
 	c.Leave()
-	if !c.Away() || c.At() != Nowhere || c.View() != (api.View{At: -1, Home: 0}) {
+	if !c.Away() || c.At() != Nowhere || c.Home() != 0 || c.View() != (api.View{At: -1, Home: 0}) {
 		t.Errorf("P4: away: %+v", c.View())
 	}
 	c.Come(5)
-	if c.Away() || c.At() != 5 || c.View() != (api.View{At: 5, Home: 5}) {
+	if c.Away() || c.At() != 5 || c.Home() != 5 || c.View() != (api.View{At: 5, Home: 5}) {
 		t.Errorf("P4: at 5: %+v", c.View())
 	}
 }
@@ -62,7 +63,7 @@ func TestSlotsAreTakenFromTheLeastOn(t *testing.T) {
 		if free, ok := c.Free(); free != slot || !ok || c.Has(slot) {
 			t.Errorf("P5: %d, %v, want %d", free, ok, slot)
 		}
-		c.Subscribe(slot)
+		c.Subscribe(slot, filters.Filter{})
 		if !c.Has(slot) {
 			t.Errorf("P5: nothing in slot %d", slot)
 		}
@@ -85,23 +86,66 @@ func TestSlotsAreTakenFromTheLeastOn(t *testing.T) {
 func TestAgesOfASlotRise(t *testing.T) {
 	c := New()
 	for want := range 4 {
-		if age := c.Subscribe(0); age != want {
+		if age := c.Subscribe(0, filters.Filter{}); age != want {
 			t.Errorf("P5: Subscribe: age %d, want %d", age, want)
 		}
 		if age := c.Unsubscribe(0); age != want {
 			t.Errorf("P5: Unsubscribe: age %d, want %d", age, want)
 		}
 	}
-	if age := c.Subscribe(1); age != 0 {
+	if age := c.Subscribe(1, filters.Filter{}); age != 0 {
 		t.Errorf("P5: the first one of slot 1: age %d", age)
+	}
+}
+
+func TestMovesMakeASubscriptionOlder(t *testing.T) {
+	c := New()
+	filter, ok := filters.New([]api.Test{{Field: 1, Op: api.Below, N: 9}})
+	if !ok {
+		t.Fatal("P5: a filter is refused")
+	}
+	c.Subscribe(0, filters.Filter{})
+	c.Subscribe(1, filter)
+	for want := 1; want < 4; want++ {
+		if age, f := c.Move(1); age != want || f != filter {
+			t.Errorf("P4: age %d, %+v, want %d", age, f, want)
+		}
+	}
+	if age, f := c.Move(0); age != 1 || f != (filters.Filter{}) {
+		t.Errorf("P4: the other slot: age %d, %+v", age, f)
+	}
+	if age := c.Unsubscribe(1); age != 3 {
+		t.Errorf("P5: Unsubscribe: age %d, want 3", age)
+	}
+	if age := c.Subscribe(1, filters.Filter{}); age != 4 {
+		t.Errorf("P5: Subscribe: age %d, want 4", age)
+	}
+	if _, f := c.Move(1); f != (filters.Filter{}) {
+		t.Errorf("P5: an old filter: %+v", f)
+	}
+}
+
+func TestAMoveForgetsNothingThatWasTold(t *testing.T) {
+	c := subscribed()
+	c.Tell(notes.Event(0, event(3, 5), 1))
+	c.TakeLog()
+	c.Move(0)
+	c.Tell(notes.Event(0, event(3, 5), 1))
+	c.Tell(notes.Event(0, event(3, 4), 1))
+	if log := c.TakeLog(); log != nil {
+		t.Errorf("Frames: told before the move: %v", log)
+	}
+	c.Tell(notes.Event(0, event(3, 6), 1))
+	if log := c.TakeLog(); len(log) != 1 {
+		t.Errorf("Frames: not told before the move: %v", log)
 	}
 }
 
 // subscribed makes a client with subscriptions in both slots.
 func subscribed() Client {
 	c := New()
-	c.Subscribe(0)
-	c.Subscribe(1)
+	c.Subscribe(0, filters.Filter{})
+	c.Subscribe(1, filters.Filter{})
 	return c
 }
 
@@ -160,7 +204,7 @@ func TestWhatWasToldHoldsForOneSubscriptionAlone(t *testing.T) {
 		t.Errorf("Frames: another slot: %v", log)
 	}
 	c.Unsubscribe(0)
-	c.Subscribe(0)
+	c.Subscribe(0, filters.Filter{})
 	c.Tell(notes.Event(0, event(3, 8), 1))
 	c.Tell(notes.Event(1, event(3, 8), 1))
 	if log := c.TakeLog(); !slices.Equal(log, []api.Entry{{Slot: 0, Event: event(3, 8)}}) {

@@ -1,12 +1,16 @@
 package clients
 
-import "rover/notes"
+import (
+	"rover/filters"
+	"rover/notes"
+)
 
 // slot has room for a subscription. Its age stays when the subscription ends, as the next one's follows it.
 type slot struct {
-	taken bool
-	age   int
-	heard map[stay]int
+	taken  bool
+	age    int
+	filter filters.Filter
+	heard  map[stay]int
 }
 
 // stay is one of a publisher's stays at a broker.
@@ -20,8 +24,8 @@ func newSlot() slot {
 }
 
 // take makes a new subscription, to which nothing was told.
-func (s *slot) take() {
-	*s = slot{taken: true, age: s.age + 1, heard: map[stay]int{}}
+func (s *slot) take(filter filters.Filter) {
+	*s = slot{taken: true, age: s.age + 1, filter: filter, heard: map[stay]int{}}
 }
 
 // free ends the subscription.

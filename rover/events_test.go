@@ -8,32 +8,6 @@ import (
 	"rover/api"
 )
 
-// The document's examples, up to the client's going away.
-func TestExamples(t *testing.T) {
-	n := start(t, 0, 0)
-	attach(t, n, 0, 1)
-	attach(t, n, 1, 2)
-	if slot := subscribe(t, n, 0, api.Test{Field: 0, Op: 4, N: 5}); slot != 0 {
-		t.Errorf("P5: slot %d", slot)
-	}
-	wantPending(t, "P5", n, api.Link{From: 1, To: 0, Many: 1})
-	deliver(t, n, 1, 0, 2)
-	wantPending(t, "P6", n)
-	first, second := publish(t, n, 1, 7), publish(t, n, 1, 4)
-	if first.Number != 1 || second.Number != 2 {
-		t.Errorf("P6: numbers %d, %d", first.Number, second.Number)
-	}
-	wantPending(t, "P6", n, api.Link{From: 2, To: 0, Many: 1})
-	deliver(t, n, 2, 0, 1)
-	wantLog(t, "P8", n, 0, api.Entry{Event: first})
-	detach(t, n, 0)
-	third := publish(t, n, 1, 9)
-	deliver(t, n, 2, 0, 1)
-	wantLog(t, "P4: it is kept", n, 0)
-	attach(t, n, 0, 1)
-	wantLog(t, "P4: it was kept", n, 0, api.Entry{Event: third})
-}
-
 func TestEventsMeetTheFilter(t *testing.T) {
 	events := [][]int{{math.MinInt, 0, 1}, {5, 5, 0}, {4, -1, 0}, {math.MaxInt, 0, -1}}
 	for k, c := range []struct {
@@ -266,19 +240,6 @@ func TestEventsInLinksAreKeptToo(t *testing.T) {
 	attach(t, n, 0, 0)
 	deliver(t, n, 1, 0)
 	wantLog(t, "P9: by rising numbers", n, 0, api.Entry{Event: first}, api.Entry{Event: second}, api.Entry{Event: third})
-}
-
-// Until its old broker knows more, events that come there are not for the broker that the client is at.
-func TestABrokerKeepsEventsOfThoseWhoAreElsewhere(t *testing.T) {
-	n := start(t, 0)
-	attach(t, n, 0, 0)
-	attach(t, n, 1, 0)
-	subscribe(t, n, 0)
-	settle(t, n)
-	detach(t, n, 0)
-	attach(t, n, 0, 1)
-	publish(t, n, 1)
-	wantLog(t, "Words: its client is not at this broker", n, 0)
 }
 
 // Deliver is never refused, and what it makes counts as well.

@@ -155,6 +155,32 @@ func TestFullRefusesSubscriptions(t *testing.T) {
 	}
 }
 
+func TestBusyComesAheadOfFullAndNone(t *testing.T) {
+	n := start(t, 0)
+	n.Attach(0, 0)
+	n.Subscribe(0, nil)
+	n.Deliver(0, 1)
+	n.Detach(0)
+	n.Attach(0, 1)
+	fill(n, 0, 1, 100)
+	for k, c := range []struct{ got, want api.Errno }{
+		{refusal(n.Subscribe(0, nil)), api.ErrBusy},
+		{refusal(n.Subscribe(0, []api.Test{{}})), api.ErrArg},
+		{n.Unsubscribe(0, 0), api.ErrBusy},
+		{n.Unsubscribe(0, 1), api.ErrBusy},
+		{n.Unsubscribe(0, -1), api.ErrArg},
+		{n.Detach(0), api.ErrBusy},
+		{n.Attach(0, 0), api.ErrHere},
+	} {
+		if c.got != c.want {
+			t.Errorf("P4, P5: line %d: %d, want %d", k, c.got, c.want)
+		}
+	}
+	if m, e := n.Publish(0, [3]int{}); m != 0 || e != api.ErrFull {
+		t.Errorf("P6: Publish: %d, %d", m, e)
+	}
+}
+
 // refusal tells the error, or none that there is, if a slot stands beside it.
 func refusal(slot int, e api.Errno) api.Errno {
 	if slot != 0 {

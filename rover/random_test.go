@@ -11,6 +11,7 @@ import (
 // asked is a subscription as its client sees it.
 type asked struct {
 	filter []api.Test
+	age    int  // with which it was made
 	known  bool // by all brokers
 	due    map[[2]int]bool
 	told   map[[2]int]bool
@@ -52,14 +53,9 @@ func newPlay(t *testing.T, seed uint64) *play {
 	return p
 }
 
-// come lets a client that has subscriptions come to its home alone: it stays.
+// come lets a client come to any broker, whatever its home is.
 func (p *play) come(client int) {
-	broker := p.r.IntN(p.brokers)
-	if p.asked[client] != [api.Slots]*asked{} {
-		v, _ := p.n.Look(client)
-		broker = v.Home
-	}
-	if p.n.Attach(client, broker) == api.OK {
+	if p.n.Attach(client, p.r.IntN(p.brokers)) == api.OK {
 		p.stays[client]++
 	}
 }
@@ -73,7 +69,7 @@ func (p *play) subscribe(client int) {
 		if p.asked[client][slot] != nil {
 			p.t.Fatalf("P5: slot %d of client %d was not free", slot, client)
 		}
-		p.asked[client][slot] = &asked{filter: filter, due: map[[2]int]bool{}, told: map[[2]int]bool{}, last: map[[2]int]int{}}
+		p.asked[client][slot] = &asked{filter: filter, age: p.n.Age(client, slot), due: map[[2]int]bool{}, told: map[[2]int]bool{}, last: map[[2]int]int{}}
 	}
 }
 
@@ -140,55 +136,84 @@ func (p *play) read(client int) {
 	}
 }
 
-// settled holds what was told against P10, when nothing waits; from now on all brokers know all subscriptions.
-func (p *play) settled() {
-	for client := range api.Clients {
-		if v, _ := p.n.Look(client); v.At < 0 {
-			p.come(client)
-		}
-		p.read(client)
-		for _, a := range p.asked[client] {
-			if a == nil {
-				continue
+// learn looks which subscriptions all brokers know: from then on their events are due.
+func (p *play) learn() {
+	for client, slots := range p.asked {
+		for slot, a := range slots {
+			if a != nil && !a.known {
+				a.known = p.n.AllKnow(client, slot, a.age)
 			}
-			missing := 0
-			for id := range a.due {
-				if !a.told[id] {
-					missing++
-				}
-			}
-			if missing > a.lost {
-				p.t.Fatalf("P10: client %d: %d events are missing, %d were lost", client, missing, a.lost)
-			}
-			a.known = true
 		}
 	}
 }
 
-func TestWhateverIsDeliveredInWhichOrder(t *testing.T) {
-	for seed := range uint64(300) {
-		p := newPlay(t, seed)
-		for step := range 400 {
-			client := p.r.IntN(api.Clients)
-			switch p.r.IntN(12) {
-			case 0:
-				p.come(client)
-			case 1:
-				p.n.Detach(client)
-			case 2:
-				p.subscribe(client)
-			case 3:
-				p.unsubscribe(client)
-			case 4, 5, 6:
-				p.publish(client)
-			case 7:
-				p.read(client)
-			default:
-				p.deliver()
+// settle lets all clients come, and all frames, and then holds what was told against P10.
+func (p *play) settle() {
+	settle(p.t, p.n)
+	for client := range api.Clients {
+		p.come(client)
+	}
+	settle(p.t, p.n)
+	p.learn()
+	for client := range api.Clients {
+		if v, _ := p.n.Look(client); v.At < 0 || v.Waits {
+			p.t.Fatalf("P4: client %d has not come, though nothing waits: %+v", client, v)
+		}
+		p.read(client)
+		for _, a := range p.asked[client] {
+			if a != nil {
+				p.holdDue(client, a)
 			}
-			if step%50 == 49 {
-				settle(t, p.n)
-				p.settled()
+		}
+	}
+}
+
+func (p *play) holdDue(client int, a *asked) {
+	if !a.known {
+		p.t.Fatalf("P10: a subscription of client %d is not known, though nothing waits", client)
+	}
+	missing := 0
+	for id := range a.due {
+		if !a.told[id] {
+			missing++
+		}
+	}
+	if missing > a.lost {
+		p.t.Fatalf("P10: client %d: %d events are missing, %d were lost", client, missing, a.lost)
+	}
+}
+
+// step makes one call; of each hundred, so many deliver a frame.
+func (p *play) step(delivers int) {
+	client := p.r.IntN(api.Clients)
+	if p.r.IntN(100) < delivers {
+		p.deliver()
+		return
+	}
+	switch p.r.IntN(9) {
+	case 0, 1:
+		p.come(client)
+	case 2:
+		p.n.Detach(client)
+	case 3:
+		p.subscribe(client)
+	case 4:
+		p.unsubscribe(client)
+	case 5, 6, 7:
+		p.publish(client)
+	default:
+		p.read(client)
+	}
+}
+
+func TestWhateverIsDeliveredInWhichOrder(t *testing.T) {
+	for seed := range uint64(600) {
+		p := newPlay(t, seed)
+		for step := range 500 {
+			p.step(20 + int(seed%4)*15)
+			p.learn()
+			if step%100 == 99 {
+				p.settle()
 			}
 		}
 	}

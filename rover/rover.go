@@ -33,7 +33,6 @@ func New(parents []int) (*Net, api.Errno) {
 }
 
 // Attach lets a client come to a broker (P4).
-// Moves are not built as yet: its subscriptions stay where they are.
 func (n *Net) Attach(client int, broker int) api.Errno {
 	if e := n.check(isClient(client) && n.tree.Has(broker)); e != api.OK {
 		return e
@@ -45,8 +44,13 @@ func (n *Net) Attach(client int, broker int) api.Errno {
 	case n.full():
 		return api.ErrFull
 	}
+	home := c.Home()
 	c.Come(broker)
-	n.tellKept(client)
+	if home == broker || home == clients.Nowhere {
+		n.tellKept(client)
+	} else {
+		n.move(client, home)
+	}
 	return api.OK
 }
 
@@ -56,8 +60,11 @@ func (n *Net) Detach(client int) api.Errno {
 		return e
 	}
 	c := &n.clients[client]
-	if c.Away() {
+	switch {
+	case c.Away():
 		return api.ErrAway
+	case n.waits(client):
+		return api.ErrBusy
 	}
 	c.Leave()
 	return api.OK
@@ -74,12 +81,14 @@ func (n *Net) Subscribe(client int, filter []api.Test) (int, api.Errno) {
 	switch {
 	case c.Away():
 		return 0, api.ErrAway
+	case n.waits(client):
+		return 0, api.ErrBusy
 	case !free:
 		return 0, api.ErrNone
 	case n.full():
 		return 0, api.ErrFull
 	}
-	s := brokers.Subscription{Client: client, Slot: slot, Age: c.Subscribe(slot), Filter: f}
+	s := brokers.Subscription{Client: client, Slot: slot, Age: c.Subscribe(slot, f), Filter: f}
 	n.handle(c.At(), brokers.Here, &frame{kind: subFrame, subscription: s})
 	return slot, api.OK
 }
@@ -93,6 +102,8 @@ func (n *Net) Unsubscribe(client int, slot int) api.Errno {
 	switch {
 	case c.Away():
 		return api.ErrAway
+	case n.waits(client):
+		return api.ErrBusy
 	case !c.Has(slot):
 		return api.ErrNone
 	case n.full():
@@ -151,7 +162,9 @@ func (n *Net) Look(client int) (api.View, api.Errno) {
 	if e := n.check(isClient(client)); e != api.OK {
 		return api.View{}, e
 	}
-	return n.clients[client].View(), api.OK
+	v := n.clients[client].View()
+	v.Waits = n.waits(client)
+	return v, api.OK
 }
 
 // Close closes the net (P8).
@@ -184,6 +197,34 @@ func (n *Net) tellKept(client int) {
 			known.Release(c.Tell)
 		}
 	}
+}
+
+// move lets the broker a client has come to send for what is kept for its subscriptions at its old home.
+func (n *Net) move(client, oldHome int) {
+	c := &n.clients[client]
+	for slot := range api.Slots {
+		if !c.Has(slot) {
+			continue
+		}
+		s := brokers.Subscription{Client: client, Slot: slot}
+		s.Age, s.Filter = c.Move(slot)
+		n.brokers[c.At()].Await(s)
+		n.pass(c.At(), oldHome, &frame{kind: moveFrame, subscription: s, oldHome: oldHome, newBroker: c.At()})
+	}
+}
+
+// waits tells whether a broker waits for one of a client's subscriptions. Only the one it is at can: a client does not leave one that waits.
+func (n *Net) waits(client int) bool {
+	c := &n.clients[client]
+	if c.Away() {
+		return false
+	}
+	for slot := range api.Slots {
+		if known := n.brokers[c.At()].Known(client, slot); known != nil && known.Waits() {
+			return true
+		}
+	}
+	return false
 }
 
 // full tells whether calls that may send frames are refused (P7).

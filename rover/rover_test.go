@@ -282,6 +282,9 @@ func walk(n *rover.Net, k int) []int {
 	m, e := n.Publish(a, [3]int{k, b, a})
 	v, e2 := n.Look(b)
 	answers := []int{m, int(e), v.At, v.Home, int(e2), int(n.Deliver(a, b))}
+	if v.Waits {
+		answers = append(answers, -1)
+	}
 	for _, link := range n.Pending() {
 		answers = append(answers, link.From, link.To, link.Many)
 	}

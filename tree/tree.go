@@ -1,4 +1,4 @@
-// Package tree: the brokers, and who is whose neighbour.
+// Package tree: the brokers, who is whose neighbour, and the path from one to another.
 package tree
 
 import (
@@ -40,6 +40,22 @@ func (t Tree) Neighbours(a, b int) bool {
 	return t.isParent(a, b) || t.isParent(b, a)
 }
 
+// Next tells the neighbour of a broker on the path to another one of the tree.
+func (t Tree) Next(at, goal int) int {
+	// A parent is less than its child, so what is not above at is not below it.
+	for b := goal; b > at; b = t.parent(b) {
+		if t.parent(b) == at {
+			return b
+		}
+	}
+	return t.parent(at)
+}
+
 func (t Tree) isParent(parent, child int) bool {
-	return child > 0 && t.Has(child) && t.parents[child-1] == parent
+	return child > 0 && t.Has(child) && t.parent(child) == parent
+}
+
+// parent tells the parent of a broker that is not the root.
+func (t Tree) parent(child int) int {
+	return t.parents[child-1]
 }

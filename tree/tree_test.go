@@ -2,6 +2,7 @@ package tree
 
 import (
 	"math"
+	"slices"
 	"testing"
 )
 
@@ -64,5 +65,51 @@ func TestParentsAreNotKept(t *testing.T) {
 	parents[1] = 0
 	if !tr.Neighbours(1, 2) || tr.Neighbours(0, 2) {
 		t.Error("P2: the caller's list is kept")
+	}
+}
+
+// far tells how many links there are between two brokers, by their lines of parents.
+func far(parents []int, a, b int) int {
+	steps := 0
+	for ; a != b; steps++ {
+		if a > b {
+			a = parents[a-1]
+		} else {
+			b = parents[b-1]
+		}
+	}
+	return steps
+}
+
+func trees(many int) [][]int {
+	all := [][]int{nil}
+	for i := range many - 1 {
+		var more [][]int
+		for _, parents := range all {
+			for parent := range i + 1 {
+				more = append(more, append(slices.Clone(parents), parent))
+			}
+		}
+		all = more
+	}
+	return all
+}
+
+func TestNextIsOneStepNearer(t *testing.T) {
+	for many := 2; many <= 6; many++ {
+		for _, parents := range trees(many) {
+			tr, _ := New(parents)
+			for at := range many {
+				for goal := range many {
+					if at == goal {
+						continue
+					}
+					next := tr.Next(at, goal)
+					if !tr.Neighbours(at, next) || far(parents, next, goal) != far(parents, at, goal)-1 {
+						t.Errorf("Frames: %v: Next(%d, %d): %d", parents, at, goal, next)
+					}
+				}
+			}
+		}
 	}
 }
